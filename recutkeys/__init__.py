@@ -1,0 +1,1 @@
+"""Recutkeys: halls whose doors recut the key."""

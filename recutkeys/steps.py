@@ -1,0 +1,54 @@
+"""Steps through a hall's doors."""
+
+from recutkeys.arrangements import behind, undone
+from recutkeys.errors import NoStep
+from recutkeys.plain import is_name
+from recutkeys.stands import split
+
+# In their rising order, so that steps told by them rise, too.
+SIDES = ("back", "forth")
+
+
+def steps(hall, stand):
+    """The steps that can be done at a stand, rising."""
+    spot = split(hall, stand)
+    every = [(door, side) for door in hall.doors() for side in SIDES]
+    return [step for step in every if why_not(hall, spot, step) is None]
+
+
+def done(hall, stand, step):
+    """The stand behind a step, of anything, or NoStep."""
+    why = why_not(hall, split(hall, stand), step)
+    if why is not None:
+        raise NoStep(why)
+    _, room, moves, _ = _passage(hall, step)
+    return (room, behind(undone(moves), stand[1]))
+
+
+def is_step(thing):
+    """Whether anything is a tuple of a name and one of the two words."""
+    return isinstance(thing, tuple) and len(thing) == 2 and is_name(thing[0]) and thing[1] in SIDES
+
+
+def why_not(hall, spot, step):
+    """Why a step, of anything, can't be done at a split room; None where it can."""
+    if not is_step(step):
+        return "form"
+    if step[0] not in hall.doors():
+        return "door"
+    room, _, _, asks = _passage(hall, step)
+    if room != spot[0]:
+        return "room"
+    stood = dict(zip(hall.watched(), spot[1]))
+    if any([stood[mark] != place for mark, place in asks]):
+        return "asked"
+    return None
+
+
+def _passage(hall, step):
+    """From which room to which a step leads, what it moves, and what it asks."""
+    name, side = step
+    one, other, cut, asks = hall.door(name)
+    if side == "forth":
+        return (one, other, cut, asks)
+    return (other, one, undone(cut), tuple([(mark, cut[place]) for mark, place in asks]))
