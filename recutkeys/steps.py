@@ -18,11 +18,40 @@ def steps(hall, stand):
 
 def done(hall, stand, step):
     """The stand behind a step, of anything, or NoStep."""
-    why = why_not(hall, split(hall, stand), step)
+    (room, _), moves = led(hall, split(hall, stand), step)
+    return (room, behind(undone(moves), stand[1]))
+
+
+def led(hall, spot, step):
+    """The split room behind a step, of anything, from a split room, and what the step moves, or NoStep."""
+    why = why_not(hall, spot, step)
     if why is not None:
         raise NoStep(why)
     _, room, moves, _ = _passage(hall, step)
-    return (room, behind(undone(moves), stand[1]))
+    return ((room, behind(spot[1], moves)), moves)
+
+
+def exits(hall):
+    """For each room the steps that lead from it, rising: each with the room behind it, what it moves and asks."""
+    leading = {room: [] for room in hall.rooms()}
+    watched = hall.watched()
+    for door in hall.doors():
+        for side in SIDES:
+            room, end, moves, asks = _passage(hall, (door, side))
+            # Where the watched mark is in a split room's places, so that it needn't be looked for at each of these.
+            asked = [(watched.index(mark), place) for mark, place in asks]
+            leading[room].append(((door, side), end, moves, asked))
+    return leading
+
+
+def onward(leading, spot):
+    """By the exits of a hall the steps that can be done at a split room: each with the one behind it, what it moves."""
+    room, places = spot
+    return [
+        (step, (end, behind(places, moves)), moves)
+        for step, end, moves, asked in leading[room]
+        if all([places[at] == place for at, place in asked])
+    ]
 
 
 def is_step(thing):
