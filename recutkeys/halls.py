@@ -49,6 +49,11 @@ class Hall:
         return self._doors[name]
 
 
+def doors_of(hall):
+    """All doors of a hall, in the form in which a hall is handed them."""
+    return [(name, *hall.door(name)) for name in hall.doors()]
+
+
 def _kept_doors(doors):
     """A dict from the doors' names, rising, to all else of them."""
     kept = {}
