@@ -11,7 +11,7 @@ LEAST_PLACES = 2
 
 def show_hall(hall):
     """The text of a hall."""
-    rows = [f"places {hall.places()}", _joined(["watched", *hall.watched()])]
+    rows = [f"places {hall.places()}", row_of(["watched", *hall.watched()])]
     rows.extend([f"room {room}" for room in hall.rooms()])
     rows.extend([_show_door(hall, name) for name in hall.doors()])
     return "\n".join(rows)
@@ -22,6 +22,14 @@ def read_hall(text):
     if not isinstance(text, str):
         raise NoText(0)
     rows = text.split("\n")
+    hall, many = read_front(rows)
+    if many < len(rows):
+        raise NoText(many)
+    return hall
+
+
+def read_front(rows):
+    """The hall that the first rows write, as far as they write one, and how many these are; or NoText."""
     places = _read_places(rows[0])
     if places is None:
         raise NoText(0)
@@ -31,10 +39,22 @@ def read_hall(text):
     rooms = _read_rooms(rows[2:])
     if not rooms:
         raise NoText(2)
-    return Hall(places, watched, rooms, _read_doors(places, watched, rooms, rows))
+    doors = _read_doors(places, watched, rooms, rows[2 + len(rooms):])
+    return (Hall(places, watched, rooms, doors), 2 + len(rooms) + len(doors))
 
 
-def _joined(words):
+def read_asks(places, watched, words):
+    """The asks of these watched marks that the words write, or None."""
+    numbers = read_numbers(words, places)
+    if numbers is None or len(numbers) % 2 == 1:
+        return None
+    marks = numbers[::2]
+    if not is_rising(marks) or not all([mark in watched for mark in marks]):
+        return None
+    return tuple(zip(marks, numbers[1::2]))
+
+
+def row_of(words):
     """Texts and numbers with one blank between each two."""
     return " ".join([str(word) for word in words])
 
@@ -43,7 +63,7 @@ def _show_door(hall, name):
     """The row of a door."""
     one, other, cut, asks = hall.door(name)
     asked = [number for ask in asks for number in ask]
-    return _joined(["door", name, one, other, *cut, "asks", *asked])
+    return row_of(["door", name, one, other, *cut, "asks", *asked])
 
 
 def _read_places(row):
@@ -82,14 +102,12 @@ def _read_rooms(rows):
 
 
 def _read_doors(places, watched, rooms, rows):
-    """The doors that the rows behind the rooms write, or NoText at the first that writes none."""
+    """The doors that the first rows write, as far as they write doors of one hall."""
     doors = []
-    for row in range(2 + len(rooms), len(rows)):
-        door = _read_door(places, watched, rooms, rows[row])
-        if door is None or len(doors) == MOST_DOORS:
-            raise NoText(row)
-        if doors and doors[-1][0] >= door[0]:
-            raise NoText(row)
+    for row in rows[:MOST_DOORS]:
+        door = _read_door(places, watched, rooms, row)
+        if door is None or (doors and doors[-1][0] >= door[0]):
+            return doors
         doors.append(door)
     return doors
 
@@ -105,18 +123,7 @@ def _read_door(places, watched, rooms, row):
     if not is_name(name) or name in rooms or one not in rooms or other not in rooms:
         return None
     cut = read_numbers(words[4:middle], places)
-    asks = _read_asks(places, watched, words[middle + 1:])
+    asks = read_asks(places, watched, words[middle + 1:])
     if not is_arrangement(places, cut) or asks is None:
         return None
     return (name, one, other, cut, asks)
-
-
-def _read_asks(places, watched, words):
-    """The asks of these watched marks that the words write, or None."""
-    numbers = read_numbers(words, places)
-    if numbers is None or len(numbers) % 2 == 1:
-        return None
-    marks = numbers[::2]
-    if not is_rising(marks) or not all([mark in watched for mark in marks]):
-        return None
-    return tuple(zip(marks, numbers[1::2]))
